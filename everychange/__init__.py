@@ -1,0 +1,1 @@
+"""Everychange: programs that step along a change nobody knows."""

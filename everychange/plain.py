@@ -1,0 +1,33 @@
+"""What every file needs to read the values that it is given."""
+
+
+def is_number(thing):
+    """Whether thing is a number: True and False are none."""
+    return isinstance(thing, int) and not isinstance(thing, bool)
+
+
+def is_count(thing):
+    """Whether thing is a number from 0."""
+    return is_number(thing) and thing >= 0
+
+
+def is_tuple(thing, many):
+    """Whether thing is a tuple of so many."""
+    return isinstance(thing, tuple) and len(thing) == many
+
+
+def is_set(thing):
+    """Whether thing is an ascending tuple of numbers, each once."""
+    if not isinstance(thing, tuple) or not all([is_number(item) for item in thing]):
+        return False
+    return all([thing[at] < thing[at + 1] for at in range(len(thing) - 1)])
+
+
+def frozen(value):
+    """The value with tuples in the place of lists, at any depth."""
+    if not isinstance(value, (list, tuple)):
+        return value
+    items = []
+    for item in value:
+        items.append(frozen(item))
+    return tuple(items)
