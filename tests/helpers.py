@@ -1,6 +1,7 @@
 """What the tests share: values compared with their kinds, calls in all the ways that are let, values bent."""
 
 import copy
+import inspect
 import unittest
 from fractions import Fraction
 
@@ -77,7 +78,9 @@ class Case(unittest.TestCase):
         self.assertEqual(kind_of(found), kind_of(expected), message)
 
     def ways(self, function, arguments):
-        """The calls of function with these arguments, a dict in the order of the parameters."""
+        """The calls of function with these arguments, a dict."""
+        arguments = {name: arguments[name] for name in inspect.signature(function).parameters}
+
         def changed(change):
             return {name: value if name == "thing" else change(value) for name, value in arguments.items()}
         for change in (tupled, listed, half_listed, tupled):

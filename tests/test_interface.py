@@ -1,0 +1,82 @@
+"""Each name of the interface stands in the file under which it is listed, with the arguments that are shown."""
+
+import ast
+import importlib
+import inspect
+import pathlib
+import unittest
+
+ROOT = pathlib.Path(__file__).resolve().parent.parent
+
+INTERFACE = {
+    "ratios": """is_fraction(thing), fraction(top, bottom), whole(number), plus(x, y), minus(x, y), times(x, y), over(x, y),
+        power_of(x, many), is_less(x, y), sign_of(x), ratio_text(x), ratio_by(text), is_row(thing, many), dot(row, other),
+        applied(matrix, row), product(matrix, other), rank(rows), space_of(rows, many), is_space(thing, many),
+        in_space(space, row), zeros_of(rows, many), combination(rows, row)""",
+    "polys": """is_powersum(thing), trimmed(row), poly_plus(poly, other), poly_times(poly, other), poly_scaled(poly, x),
+        poly_value(poly, x), poly_rate(poly), divided(poly, other), common_divisor(poly, other), square_free(poly),
+        roots_between(poly, low, high), isolated(poly, low, high, width), is_isolated(poly, low, high, width, thing),
+        never_below(poly)""",
+    "tables": """is_table(thing, many), is_sheet(thing, many), is_explicit(sheet), put_in_order(sheet), renamed(sheet, order),
+        part_places(sheet), behind(table, other), scaled(table, x), undone(table), mixed(tables, shares),
+        beside(sheet, other), told(sheet, number), sheet_of(table), repeated(table, n), rounds(table, n),
+        spread(table, many), only(table, part)""",
+    "changes": """is_poly(thing, many), is_change(thing), poly_at(poly, start), plus_polys(poly, other),
+        times_polys(poly, other), scaled_poly(poly, x), slope_poly(poly, cell), part_rates(change, part, start),
+        whole_rates(change, start), whole_change(change), degree_of(change), is_ladder(change), is_kept(change, poly),
+        is_kept_by(change, part, poly), tree_change(tree, many)""",
+    "engine": """points_of(sheet, change, start, h), run_of(sheet, change, start, h),
+        is_solution(sheet, change, start, h, points), told_from(sheet, change, start, h, points),
+        series_run(sheet, change, start, power), flow_series(change, start, power), row_series(change, row, start, power),
+        unlike_at(series, other), series_at(series, h)""",
+    "trees": """is_tree(thing), made_tree(part, branches), places_of_tree(tree), number_of(tree), trees_of(parts, places),
+        cuts(tree)""",
+    "weights": """tree_row(sheet, tree), weight(table, tree), weights_of(table, places), flow_weights(parts, places),
+        is_weights(parts, places, thing), behind_weights(weights, others), back_weights(weights),
+        scaled_weights(weights, x), root_weights(weights, n), misses(table, places)""",
+    "lots": """is_parting(sheet, thing), is_even(sheet, parting), is_finer(parting, second), lots(sheet),
+        lot_of(sheet, stage), lots_within(sheet, parting), joined_parting(parting, second), parting_steps(sheet),
+        parted_after(sheet, stage, other), lot_sheet(sheet, parting), laid_out(parting, row), even_partings(sheet)""",
+    "least": """hanging(sheet), least_sheet(sheet), least_table(table), is_least(sheet), stages_to(sheet),
+        matching(sheet, other), is_matching(sheet, other, thing), blocks(sheet), solved_at_once(sheet), must_solve(sheet),
+        split_stage(sheet, stage, share)"""}
+
+ERRORS = {"NoPlace": ["place"], "NothingDone": [], "BadLine": ["line"], "CanNot": [], "TooMuch": [], "Unfit": []}
+
+
+def listed(text):
+    """The pairs (name, parameters) of a list of calls."""
+    calls = ast.parse("[" + " ".join(text.split()) + "]").body[0].value.elts
+    return [(call.func.id, [argument.id for argument in call.args]) for call in calls]
+
+
+class Interface(unittest.TestCase):
+
+    def test_functions(self):
+        for file, text in INTERFACE.items():
+            module = importlib.import_module("everychange." + file)
+            tree = ast.parse((ROOT / "everychange" / f"{file}.py").read_text())
+            defined = {node.name for node in tree.body if isinstance(node, ast.FunctionDef)}
+            for name, parameters in listed(text):
+                self.assertIn(name, defined, file)
+                found = inspect.signature(getattr(module, name)).parameters
+                self.assertEqual(list(found), parameters, name)
+                for parameter in found.values():
+                    self.assertEqual(parameter.kind, parameter.POSITIONAL_OR_KEYWORD)
+                    self.assertIs(parameter.default, parameter.empty)
+
+    def test_errors(self):
+        module = importlib.import_module("everychange.errors")
+        for name, parameters in ERRORS.items():
+            error = getattr(module, name)
+            self.assertEqual(error.__module__, "everychange.errors")
+            self.assertEqual(list(inspect.signature(error).parameters), parameters)
+
+    def test_readme_tells_how_tests_are_run(self):
+        text = (ROOT / "README.md").read_text()
+        self.assertIn("python3 -m unittest discover -s tests -t .", text)
+        self.assertIn(".ci/run", text)
+
+
+if __name__ == "__main__":
+    unittest.main()
