@@ -222,6 +222,13 @@ class TreeChanges(Case):
                   [(0,) * 5, (1, 0, 0, 0, 0), (2, 0, 0, 0, 0), (0, 1, 0, 0, 0), (0, 0, 1, 1, 0)])
         self.assertTrue(is_ladder(change))
 
+    def test_equal_branches_as_lists_and_tuples(self):
+        stalk = (0, (leaf,))
+        tree = (0, (leaf, stalk, (0, (stalk,))))
+        self.gives(tree_change(tree, 1), tree_change, tree=tree, many=1)
+        mixed = (0, (leaf, [0, [leaf]], (0, [(0, ([0, []],))])))
+        self.same(tree_change(mixed, 1), tree_change(tree, 1))
+
     def test_a_tree_of_40_places(self):
         tall = leaf
         for _ in range(39):

@@ -77,6 +77,19 @@ class Interface(unittest.TestCase):
         self.assertIn("python3 -m unittest discover -s tests -t .", text)
         self.assertIn(".ci/run", text)
 
+    def test_what_readme_shows_is_so(self):
+        text = (ROOT / "README.md").read_text()
+        code = text.split("```python\n")[1].split("```")[0]
+        names, seen = {}, 0
+        for line in code.splitlines():
+            call, _, told = line.partition("#")
+            if line.startswith(("run_of", "weight", "lots")):
+                self.assertEqual(eval(call, names), eval(told), line)
+                seen += 1
+            else:
+                exec(call, names)
+        self.assertEqual(seen, 3)
+
 
 if __name__ == "__main__":
     unittest.main()

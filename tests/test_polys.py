@@ -231,6 +231,10 @@ class Roots(Case):
             self.same(asked(thing), False, name)
         self.is_one(is_isolated, [()], poly=NOROOTS, low=None, high=None, width=ONE)
         self.is_none(is_isolated, [None, [], ((ZERO, ONE),)], poly=NOROOTS, low=None, high=None, width=ONE)
+        # What is outside of low and high is none, be it ever so narrow.
+        self.is_one(is_isolated, [(((-1, 2), ZERO),)], poly=with_roots(0), low=(-1, 2), high=HALF, width=ONE)
+        self.is_none(is_isolated, [(((-3, 4), ZERO),)], poly=with_roots(0), low=(-1, 2), high=HALF, width=ONE)
+        self.is_none(is_isolated, [(((-1, 4), (3, 4)),)], poly=with_roots(0), low=(-1, 2), high=HALF, width=ONE)
         self.is_one(is_isolated, [(((-9, 1), (-8, 1)),)], poly=powersum(8, 1), low=None, high=None, width=ONE)
 
     def test_never_below(self):

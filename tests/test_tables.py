@@ -46,6 +46,9 @@ class Kinds(Case):
         self.is_none(is_table, [none, ((), ()), euler], many=0)
         self.only_unbent(is_table, mid, many=1)
         self.only_unbent(is_table, none, many=1)
+        self.only_unbent(is_table, two, many=2)
+        self.is_none(is_table, [((two[0][0], two[0][1][:1]), two[1]), ((two[0][0], two[0][1] * 2), two[1]),
+                                ((two[0][0], ((ONE,), (ONE,))), two[1]), (two[0], (two[1][0], (ONE,)))], many=2)
 
     def test_is_sheet(self):
         self.is_one(is_sheet, [sheet_of(none), (((),), ()), (mid[0], ()), sheet_of(mid), rounds(mid, 3)], many=1)
