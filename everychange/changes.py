@@ -1,7 +1,7 @@
 """POLYS of many cells, CHANGES, and what they keep, point [7]."""
 
 from everychange.errors import NoPlace, Unfit
-from everychange.plain import frozen, is_count, is_tuple
+from everychange.plain import check_place, frozen, is_count, is_tuple
 from everychange.ratios import ONE, ZERO, is_fraction, plus, power_of, times
 from everychange.trees import places_of_tree, trees_within
 
@@ -93,8 +93,7 @@ def slope_poly(poly, cell):
 
 def part_of(change, part):
     """The POLYS by which this part moves the cells."""
-    if not 0 <= part < len(change):
-        raise NoPlace(part)
+    check_place(part, len(change))
     return change[part]
 
 

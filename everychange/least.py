@@ -1,8 +1,7 @@
 """Least SHEETS, and how much must be solved at once, point [15]."""
 
-from everychange.errors import NoPlace
 from everychange.lots import lot_sheet, lots
-from everychange.plain import frozen
+from everychange.plain import check_place, frozen
 from everychange.ratios import ONE, minus, times
 from everychange.tables import hung_on, is_order, renamed, sheet_of, stages_of, told
 
@@ -164,8 +163,7 @@ def must_solve(sheet):
 def split_stage(sheet, stage, share):
     """The SHEET with the stage there twice: the first one is hung on share times as much, the second one the rest."""
     matrices, tells = frozen(sheet)
-    if not 0 <= stage < stages_of(sheet):
-        raise NoPlace(stage)
+    check_place(stage, len(matrices[0]))
     split = []
     for matrix in matrices:
         rows = _split_rows(matrix, stage, share)

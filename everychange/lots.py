@@ -1,7 +1,7 @@
 """Lots of stages that have the same point whatever the change is, point [12]."""
 
-from everychange.errors import NoPlace, TooMuch, Unfit
-from everychange.plain import frozen, is_set
+from everychange.errors import TooMuch, Unfit
+from everychange.plain import check_place, frozen, is_set
 from everychange.tables import row_sum, stages_of
 
 MOST = 7
@@ -84,14 +84,9 @@ def lots(sheet):
     return parting_steps(sheet)[-1]
 
 
-def _check_stage(sheet, stage):
-    if not 0 <= stage < stages_of(sheet):
-        raise NoPlace(stage)
-
-
 def lot_of(sheet, stage):
     """The place of the lot of the SHEET that has this stage."""
-    _check_stage(sheet, stage)
+    check_place(stage, stages_of(sheet))
     return _places_in(lots(sheet))[stage]
 
 
@@ -106,8 +101,8 @@ def joined_parting(parting, second):
 
 def parted_after(sheet, stage, other):
     """The least place in parting_steps at which both stages are in unlike lots, None if they never are."""
-    _check_stage(sheet, stage)
-    _check_stage(sheet, other)
+    check_place(stage, stages_of(sheet))
+    check_place(other, stages_of(sheet))
     for at, parting in enumerate(parting_steps(sheet)):
         places = _places_in(parting)
         if places[stage] != places[other]:

@@ -1,5 +1,7 @@
 """What every file needs to read the values that it is given."""
 
+from everychange.errors import NoPlace
+
 
 def is_number(thing):
     """Whether thing is a number: True and False are none."""
@@ -21,6 +23,12 @@ def is_set(thing):
     if not isinstance(thing, tuple) or not all([is_number(item) for item in thing]):
         return False
     return all([thing[at] < thing[at + 1] for at in range(len(thing) - 1)])
+
+
+def check_place(place, many):
+    """Raises NoPlace if this is none of the places from 0 to many - 1."""
+    if not 0 <= place < many:
+        raise NoPlace(place)
 
 
 def frozen(value):

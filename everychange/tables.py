@@ -1,7 +1,7 @@
 """TABLES and SHEETS, and what is made of them, point [6]."""
 
-from everychange.errors import CanNot, NoPlace, Unfit
-from everychange.plain import frozen, is_number, is_tuple
+from everychange.errors import CanNot, Unfit
+from everychange.plain import check_place, frozen, is_number, is_tuple
 from everychange.ratios import ONE, ZERO, dot, is_row, minus, times
 
 
@@ -198,8 +198,7 @@ def beside(sheet, other):
 
 def told(sheet, number):
     """The TABLE with the tell at number."""
-    if not 0 <= number < len(sheet[1]):
-        raise NoPlace(number)
+    check_place(number, len(sheet[1]))
     return (frozen(sheet[0]), frozen(sheet[1][number]))
 
 
@@ -242,6 +241,5 @@ def spread(table, many):
 
 def only(table, part):
     """The TABLE of this part alone."""
-    if not 0 <= part < len(table[0]):
-        raise NoPlace(part)
+    check_place(part, len(table[0]))
     return ((frozen(table[0][part]),), (frozen(table[1][part]),))
