@@ -1,7 +1,7 @@
 """POLYS of many cells, CHANGES, and what they keep, point [7]."""
 
 from everychange.errors import NoPlace, Unfit
-from everychange.plain import check_place, frozen, is_count, is_tuple
+from everychange.plain import check_place, frozen, is_ascending, is_count, is_tuple
 from everychange.ratios import ONE, ZERO, is_fraction, plus, power_of, times
 from everychange.trees import places_of_tree, trees_within
 
@@ -17,7 +17,7 @@ def is_poly(thing, many):
     """Whether thing is a POLY of many cells."""
     if not isinstance(thing, tuple) or not all([_is_term(item, many) for item in thing]):
         return False
-    return all([thing[at][0] < thing[at + 1][0] for at in range(len(thing) - 1)])
+    return is_ascending([powers for powers, x in thing])
 
 
 def is_change(thing):

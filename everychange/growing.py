@@ -1,5 +1,6 @@
 """Series that are told one power after another, what stands before it being a POWERSUM."""
 
+from everychange.plain import unit
 from everychange.polys import poly_plus, poly_scaled, trimmed
 from everychange.ratios import ONE, ZERO, plus, times
 
@@ -39,7 +40,7 @@ class Growing:
         self.polys = polys
         self.places = {(0,) * cells: 0}
         for cell in range(cells):
-            self.places[tuple([int(at == cell) for at in range(cells)])] = cell + 1
+            self.places[unit(cell, cells)] = cell + 1
         self.steps = []
         for poly in polys:
             for powers, _ in poly:

@@ -1,7 +1,7 @@
 """Lots of stages that have the same point whatever the change is, point [12]."""
 
 from everychange.errors import TooMuch, Unfit
-from everychange.plain import check_place, frozen, is_set
+from everychange.plain import check_place, frozen, is_ascending, is_set
 from everychange.tables import row_sum, stages_of
 
 MOST = 7
@@ -9,9 +9,7 @@ MOST = 7
 
 def is_parting(sheet, thing):
     """Whether thing is a PARTING of the SHEET."""
-    if not isinstance(thing, tuple) or not all([is_set(lot) and lot for lot in thing]):
-        return False
-    if not all([thing[at] < thing[at + 1] for at in range(len(thing) - 1)]):
+    if not isinstance(thing, tuple) or not all([is_set(lot) and lot for lot in thing]) or not is_ascending(thing):
         return False
     return sorted([stage for lot in thing for stage in lot]) == list(range(stages_of(sheet)))
 

@@ -18,11 +18,19 @@ def is_tuple(thing, many):
     return isinstance(thing, tuple) and len(thing) == many
 
 
+def is_ascending(items):
+    """Whether each of the items is less than the next one."""
+    return all([items[at] < items[at + 1] for at in range(len(items) - 1)])
+
+
 def is_set(thing):
     """Whether thing is an ascending tuple of numbers, each once."""
-    if not isinstance(thing, tuple) or not all([is_number(item) for item in thing]):
-        return False
-    return all([thing[at] < thing[at + 1] for at in range(len(thing) - 1)])
+    return isinstance(thing, tuple) and all([is_number(item) for item in thing]) and is_ascending(thing)
+
+
+def unit(place, many):
+    """The tuple of many numbers that has 1 at this place, 0 elsewhere."""
+    return tuple([int(at == place) for at in range(many)])
 
 
 def check_place(place, many):

@@ -2,7 +2,8 @@
 
 from everychange.errors import Unfit
 from everychange.plain import frozen, is_tuple
-from everychange.ratios import ZERO, fraction, is_fraction, is_less, minus, over, plus, sign_of, times, whole, whole_row
+from everychange.ratios import ONE, ZERO, fraction, is_fraction, is_less, minus, over, plus, sign_of, times, whole
+from everychange.ratios import whole_row
 from everychange.signchanges import ABOVE, BELOW, changes_at, first_common, root_bound, sign_at, sign_chain
 
 
@@ -57,6 +58,16 @@ def poly_value(poly, x):
     for y in reversed(poly):
         worth = plus(times(worth, x), y)
     return worth
+
+
+def poly_through(places, worths):
+    """The POWERSUM of least degree that has these values at these unlike FRACTIONS."""
+    found, vanishing = (), (ONE,)
+    for place, worth in zip(places, worths):
+        share = over(minus(worth, poly_value(found, place)), poly_value(vanishing, place))
+        found = poly_plus(found, poly_scaled(vanishing, share))
+        vanishing = poly_times(vanishing, (minus(ZERO, place), ONE))
+    return found
 
 
 def poly_rate(poly):

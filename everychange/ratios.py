@@ -160,17 +160,22 @@ def product(matrix, other):
     return tuple([tuple([dot(line, column) for column in columns]) for line in matrix])
 
 
-def whole_row(row):
-    """row as a list of whole numbers, times the least number above 0 that makes it so, less common divisors."""
-    low, common = 1, 0
-    for top, bottom in row:
-        low = lcm(low, bottom)
-    numbers = [top * (low // bottom) for top, bottom in row]
+def lowest(numbers):
+    """The list of the numbers without their common divisors."""
+    common = 0
     for number in numbers:
         common = gcd(common, number)
     if common > 1:
-        numbers = [number // common for number in numbers]
-    return numbers
+        return [number // common for number in numbers]
+    return list(numbers)
+
+
+def whole_row(row):
+    """row as a list of whole numbers without common divisors, times a number above 0."""
+    low = 1
+    for top, bottom in row:
+        low = lcm(low, bottom)
+    return lowest([top * (low // bottom) for top, bottom in row])
 
 
 def _eliminated(rows, many):

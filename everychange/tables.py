@@ -9,7 +9,8 @@ def _is_weights(thing, many, stages):
     return is_tuple(thing, many) and all([is_row(row, stages) for row in thing])
 
 
-def _is_matrix(thing, stages):
+def is_matrix(thing, stages):
+    """Whether thing is a square matrix of FRACTIONS, of this size."""
     return is_tuple(thing, stages) and all([is_row(row, stages) for row in thing])
 
 
@@ -18,7 +19,7 @@ def _stages_if_matrices(thing, many):
     if many < 1 or not is_tuple(thing, many) or not isinstance(thing[0], tuple):
         return None
     stages = len(thing[0])
-    return stages if all([_is_matrix(matrix, stages) for matrix in thing]) else None
+    return stages if all([is_matrix(matrix, stages) for matrix in thing]) else None
 
 
 def is_table(thing, many):

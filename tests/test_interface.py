@@ -39,7 +39,23 @@ INTERFACE = {
         parted_after(sheet, stage, other), lot_sheet(sheet, parting), laid_out(parting, row), even_partings(sheet)""",
     "least": """hanging(sheet), least_sheet(sheet), least_table(table), is_least(sheet), stages_to(sheet),
         matching(sheet, other), is_matching(sheet, other, thing), blocks(sheet), solved_at_once(sheet), must_solve(sheet),
-        split_stage(sheet, stage, share)"""}
+        split_stage(sheet, stage, share)""",
+    "leastpower": """place_space(sheet, many), space_to(sheet, many), parting_power(table, other), least_tree(table, other),
+        order_to(table, most), first_miss(table, most), parting_ladder(table, other),
+        is_parting_ladder(table, other, thing)""",
+    "alike": """is_alike(table, other), unlike_sums(table, other), one_cell_paper(table, other),
+        is_one_cell_paper(table, other, thing), degree_space(sheet, degree), told_space(sheet, degree),
+        alike_to(table, other, degree), least_degree(table, other), degree_ladder(table, other), sharp_pair(many)""",
+    "flowrows": """is_flowrow(thing), is_meets(thing), row_turned(row), row_joined(row, other), row_scaled(row, x),
+        row_sums(row, many), normal_row(row), is_same(row, other), normal_with(row, meets), is_same_with(row, other, meets),
+        layers(row, meets), meets_for(row, other, many)""",
+    "letters": """is_word(thing, many), is_lyndon(word), lyndon_words(many, power), lyndon_count(many, length),
+        shuffles(word, other)""",
+    "parting": """word_worth(row, word), parting_word(row, other), is_push(thing), cell_push(many), spring_push(),
+        push_change(push), flow_table(row, push), flow_at(row, push, h, state), one_step(row, other),
+        parting_run(row, other), is_parting_run(row, other, thing)""",
+    "flowpower": """ring_of(row), part_power(row, other), cell_power(row, other), power_paper(row, other),
+        is_power_paper(row, other, thing)"""}
 
 ERRORS = {"NoPlace": ["place"], "NothingDone": [], "BadLine": ["line"], "CanNot": [], "TooMuch": [], "Unfit": []}
 
