@@ -83,21 +83,31 @@ def is_same(row, other):
     return normal_row(row) == normal_row(other)
 
 
-def _foremost(row, meets):
-    """The places of the pairs that turns (3) can bring to the first place."""
-    return [at for at, (part, _) in enumerate(row)
-            if all([_go_together(part, ahead, meets) for ahead, x in row[:at]])]
+def _foremost(parts, meets):
+    """The places of the parts that can be brought to the first place if neighbours in meets change places."""
+    return [at for at, part in enumerate(parts)
+            if all([_go_together(part, ahead, meets) for ahead in parts[:at]])]
+
+
+def least_order(parts, meets):
+    """The places of the parts in the least order to which neighbours in meets lead by changing places."""
+    left, found = list(range(len(parts))), []
+    while left:
+        # Of equal parts the first one alone is foremost.
+        _, at = min([(parts[left[place]], place) for place in _foremost([parts[place] for place in left], meets)])
+        found.append(left.pop(at))
+    return found
+
+
+def _parts_of(row):
+    return [part for part, x in row]
 
 
 def normal_with(row, meets):
     """Of the shortest ROWS to which turns lead, the one whose tuple of parts is least."""
     meets = frozen(meets)
-    left, found = _shortest(row, meets), []
-    while left:
-        # Two foremost pairs are never of one part: they would have been joined.
-        _, at = min([(left[place][0], place) for place in _foremost(left, meets)])
-        found.append(left.pop(at))
-    return tuple(found)
+    short = _shortest(row, meets)
+    return tuple([short[at] for at in least_order(_parts_of(short), meets)])
 
 
 def is_same_with(row, other, meets):
@@ -110,7 +120,7 @@ def layers(row, meets):
     meets = frozen(meets)
     left, found = _shortest(row, meets), []
     while left:
-        foremost = _foremost(left, meets)
+        foremost = _foremost(_parts_of(left), meets)
         found.append(tuple(sorted([left[at] for at in foremost])))
         left = [pair for at, pair in enumerate(left) if at not in foremost]
     return tuple(found)

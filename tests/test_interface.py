@@ -55,7 +55,16 @@ INTERFACE = {
         push_change(push), flow_table(row, push), flow_at(row, push, h, state), one_step(row, other),
         parting_run(row, other), is_parting_run(row, other, thing)""",
     "flowpower": """ring_of(row), part_power(row, other), cell_power(row, other), power_paper(row, other),
-        is_power_paper(row, other, thing)"""}
+        is_power_paper(row, other, thing)""",
+    "roworders": """marks_of(row, many, power), whole_marks(many, power), worth_by(marks, many, word),
+        joined_marks(marks, others, many), order_of(row, many), order_with(row, many, meets), commutator_row(word),
+        row_for(many, marks), row_of_order(many, power), is_row_for(many, marks, thing), mix_order(mix, many)""",
+    "signs": """least_row(many, power), sign_sum(row, a, b), sign_steps(row, a, b), below_parts(row), sign_paper(mix),
+        is_sign_paper(mix, thing)""",
+    "flowloops": """seen_through(row, other), is_seen_through(row, other, thing), row_rounds(row, n), is_product(thing),
+        product_at(product, n), first_apart(product, other), is_form_row(thing), same_at(row, other)""",
+    "plans": """is_plan(thing), ways(plan)""",
+    "planruns": """plan_sheet(plan, ways), plan_table(plan, way), plan_of(sheet)"""}
 
 ERRORS = {"NoPlace": ["place"], "NothingDone": [], "BadLine": ["line"], "CanNot": [], "TooMuch": [], "Unfit": []}
 
