@@ -93,8 +93,9 @@ def least_order(parts, meets):
     """The places of the parts in the least order to which neighbours in meets lead by changing places."""
     left, found = list(range(len(parts))), []
     while left:
+        parts_left = [parts[place] for place in left]
         # Of equal parts the first one alone is foremost.
-        _, at = min([(parts[left[place]], place) for place in _foremost([parts[place] for place in left], meets)])
+        _, at = min([(parts_left[place], place) for place in _foremost(parts_left, meets)])
         found.append(left.pop(at))
     return found
 

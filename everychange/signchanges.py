@@ -1,6 +1,6 @@
 """Polynomials as lists of whole numbers, and how often signs change in their chains: how real roots are counted."""
 
-from math import gcd
+from everychange.ratios import lowest
 
 ABOVE = (1, 0)
 BELOW = (-1, 0)
@@ -8,12 +8,10 @@ BELOW = (-1, 0)
 
 def less_common(numbers):
     """The numbers without 0s at the end, divided by what divides all of them."""
-    length, common = len(numbers), 0
+    length = len(numbers)
     while length and numbers[length - 1] == 0:
         length -= 1
-    for number in numbers[:length]:
-        common = gcd(common, number)
-    return [number // common for number in numbers[:length]]
+    return lowest(numbers[:length])
 
 
 def whole_rest(numbers, others):

@@ -150,6 +150,12 @@ class Papers(Case):
         self.is_none(is_one_cell_paper, [paper, ((((),),), ()), None], table=nothing, other=nothing)
 
     def test_spoilt_papers(self):
+        # Points that are no solution, of the one or of the other, though both tell unlike from them.
+        for points in (((none,), (one,), (none,), (one,)), ((none,), ((2, 1),), (none,), (half,))):
+            tells = [told_from(sheet_of(own), bend, (none,), one, mine)
+                     for own, mine in ((mean, points[:2]), (middle, points[2:]))]
+            self.assertNotEqual(tells[0], tells[1])
+            self.is_none(is_one_cell_paper, [(bend, points)], table=mean, other=middle)
         # A solution by which both tell the same, and one that is too steep though both tell unlike.
         flat = (((((1,), one),),), ((none,),) * 4)
         self.is_none(is_one_cell_paper, [flat], table=mean, other=middle)

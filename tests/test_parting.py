@@ -254,6 +254,10 @@ class Runs(Case):
                 self.assertNotEqual(ends[0], ends[1])
                 self.is_one(is_parting_run, [run], row=row, other=other)
         self.gives(None, parting_run, row=(), other=())
+        # On cell_push some of these lead to the same at the step 1 from (1, 0), some from both (1, 0) and (0, 1).
+        for row in (((0, (2, 1)), (1, i), (0, (-2, 1))), ((0, i), (1, i), (0, (-1, 2)), (1, (-1, 2)))):
+            self.assertEqual(flow_at(row, cell_push(2), i, (i, o)), (i, o))
+            self.is_one(is_parting_run, [parting_run(row, ()), parting_run((), row)], row=row, other=())
         self.assertEqual(len(parting_run(((98, i), (1, i)), ((1, i), (98, i)))[0]), 99)
 
     def test_is_parting_run(self):

@@ -7,7 +7,7 @@ from math import factorial
 from everychange.changes import tree_change
 from everychange.engine import flow_series, row_series, unlike_at
 from everychange.errors import Unfit
-from everychange.flowrows import is_flowrow, is_same_with, normal_row, row_joined, row_turned
+from everychange.flowrows import is_flowrow, is_same_with, normal_row, normal_with, row_joined, row_turned
 from everychange.letters import is_lyndon, lyndon_words, shuffles
 from everychange.parting import word_worth
 from everychange.roworders import (commutator_row, is_row_for, joined_marks, marks_of, mix_order, order_of, order_with,
@@ -186,8 +186,20 @@ class Orders(Case):
             self.gives(0, order_with, row=long_row[1:], many=3, meets=meets)
             self.assertEqual(order_of(long_row, 3) < order or order < 2, True)
 
-    def test_order_with_beside_commuting_flows(self):
-        # Part 0 and part 2 move cells of their own; the words of both as one class have the sums of the flow.
+    def test_order_with_beside_normal_with(self):
+        # ROWS that are the same if these parts go together are of one order then.
+        for seed in range(40):
+            many = 2 + seed % 3
+            meets = all_meets(many)[seed * 7 % len(all_meets(many))]
+            row = middle_row(many, 1) if seed % 2 else tuple((part, one) for part in range(many))
+            row = row + ((seed % many, half),) + some_row(seed, many, 2)
+            row = row + row_turned(row[-3:]) if seed % 4 else row
+            normal = normal_with(row, meets)
+            self.gives(order_with(normal, many, meets), order_with, row=row, many=many, meets=meets)
+            if order_with(row, many, meets) is not None:
+                self.assertGreaterEqual(order_with(row, many, meets), order_of(row, many) or 0)
+
+    def test_order_with_beside_all_words(self):
         for seed in range(30):
             many = 2 + seed % 2
             meets = all_meets(many)[seed % len(all_meets(many))]
