@@ -2,15 +2,15 @@
 
 from math import comb
 
-from everychange.changes import degree_of, is_change
+from everychange.changes import degree_of, is_change, product_poly
 from everychange.engine import is_solution, told_from
 from everychange.errors import Unfit
 from everychange.lots import laid_out, lot_sheet, lots
 from everychange.plain import is_tuple
-from everychange.polys import poly_through
-from everychange.ratios import ONE, ZERO, applied, dot, fraction, is_row, minus, over, plus, space_of, whole, whole_row
+from everychange.ratios import ONE, ZERO, fraction, is_row, minus, space_of, whole, whole_row
 from everychange.spans import Span, dot_of, products_of, sums_by, whole_matrix
 from everychange.tables import beside, sheet_of
+from everychange.unlike import change_through, rates_and_points
 
 
 def both_lots(table, other):
@@ -35,44 +35,13 @@ def unlike_sums(table, other):
     return [(part, place, x) for part, row in enumerate(apart) for place, x in enumerate(row) if x[0]]
 
 
-def _never_zero(forms, many):
-    """A row of many whole numbers whose dot with each of forms, none 0 throughout, is not 0."""
-    row = []
-    for at in range(many):
-        last_here = [form for form in forms if form[at][0] and not any([x[0] for x in form[at + 1:]])]
-        barred = [over(minus(ZERO, dot(form[:at], row)), form[at]) for form in last_here]
-        number = 0
-        while whole(number) in barred:
-            number += 1
-        row.append(whole(number))
-    return row
-
-
-def _rates_apart(matrices, apart):
-    """For each part the rates at the lots, such that the points of all lots are unlike and both tell unlike."""
-    size, forms = len(apart[0]), [[x for row in apart for x in row]]
-    for lot in range(size):
-        for ahead in range(lot):
-            # A form is 0 throughout for no two lots: their rows would be equal, and they one lot.
-            forms.append([minus(x, y) for matrix in matrices for x, y in zip(matrix[lot], matrix[ahead])])
-    row = _never_zero(forms, size * len(apart))
-    return [row[at * size:(at + 1) * size] for at in range(len(apart))]
-
-
 def one_cell_paper(table, other):
     """A ONE CELL PAPER; None if they tell the same."""
     if is_alike(table, other):
         return None
     parting, matrices, apart = both_lots(table, other)
-    rates = _rates_apart(matrices, apart)
-    points = [ZERO] * len(parting)
-    for matrix, row in zip(matrices, rates):
-        points = [plus(x, y) for x, y in zip(points, applied(matrix, row))]
-    change = []
-    for row in rates:
-        poly = poly_through(points, row)
-        change.append((tuple([((power,), x) for power, x in enumerate(poly) if x[0]]),))
-    return (tuple(change), tuple([(x,) for x in laid_out(parting, points)]))
+    rates, points = rates_and_points(matrices, [[x for row in apart for x in row]])
+    return (change_through(points, rates), tuple([(x,) for x in laid_out(parting, points)]))
 
 
 def is_one_cell_paper(table, other, thing):
@@ -181,11 +150,6 @@ def least_degree(table, other):
     return degree
 
 
-def _product_poly(places, many):
-    """The POLY of the product of the cells at these places."""
-    return ((tuple([places.count(cell) for cell in range(many)]), ONE),)
-
-
 def degree_ladder(table, other):
     """A ladder of least_degree by which, from zeros with the step 1, both tell unlike; None if they tell the same."""
     degree = least_degree(table, other)
@@ -193,7 +157,7 @@ def degree_ladder(table, other):
         return None
     cells, asks = _told_unlike(table, other, degree)
     moved = cells + asks[:1]
-    return tuple([tuple([_product_poly(places, len(moved)) if own == part else () for own, places in moved])
+    return tuple([tuple([product_poly(places, len(moved)) if own == part else () for own, places in moved])
                   for part in range(len(table[0]))])
 
 

@@ -3,7 +3,9 @@
 from everychange.errors import NoPlace, Unfit
 from everychange.plain import check_place, frozen, is_ascending, is_count, is_tuple
 from everychange.ratios import ONE, ZERO, is_fraction, plus, power_of, times
-from everychange.trees import places_of_tree, trees_within
+from everychange.trees import unlike_trees
+
+MOST_POWER = 24
 
 
 def _is_term(thing, many):
@@ -122,6 +124,11 @@ def degree_of(change):
     return max([sum(powers) for part in change for poly in part for powers, x in poly], default=0)
 
 
+def has_low_powers(change):
+    """Whether no power in the POLYS is greater than those that a CHANGE that is passed in has."""
+    return all([max(powers) <= MOST_POWER for part in change for poly in part for powers, x in poly])
+
+
 def is_ladder(change):
     """Whether each rate of each cell hangs on earlier cells alone."""
     return not any([any(powers[cell:]) for part in change for cell, poly in enumerate(part) for powers, x in poly])
@@ -142,17 +149,16 @@ def is_kept_by(change, part, poly):
     return _is_still(part_of(change, part), poly)
 
 
+def product_poly(places, many):
+    """The POLY of the product of the cells at these places, many cells in all."""
+    return ((tuple([places.count(cell) for cell in range(many)]), ONE),)
+
+
 def tree_change(tree, many):
     """The ladder with a cell for each TREE in tree, moved by the product of the cells of its branches."""
-    within = trees_within(frozen(tree))
-    if any([part >= many for part, branches in within]):
+    cells = unlike_trees([frozen(tree)])
+    if any([part >= many for part, branches in cells]):
         raise Unfit()
-    cells = []
-    for _, own in sorted([(places_of_tree(own), own) for own in within]):
-        if own not in cells:
-            cells.append(own)
-    rates = [[()] * len(cells) for _ in range(many)]
-    for at, (part, branches) in enumerate(cells):
-        powers = tuple([branches.count(cell) for cell in cells])
-        rates[part][at] = ((powers, ONE),)
-    return tuple([tuple(row) for row in rates])
+    polys = [product_poly([cells.index(branch) for branch in branches], len(cells)) for part, branches in cells]
+    return tuple([tuple([poly if own == part else () for poly, (own, _) in zip(polys, cells)])
+                  for part in range(many)])

@@ -4,8 +4,8 @@ from everychange.changes import is_ladder, rates_by, whole_change
 from everychange.errors import CanNot
 from everychange.growing import Growing
 from everychange.plain import frozen
-from everychange.polys import poly_plus, poly_scaled, poly_value, trimmed
-from everychange.ratios import ONE, ZERO, over, plus, times, whole
+from everychange.polys import poly_integral, poly_plus, poly_scaled, poly_value, trimmed
+from everychange.ratios import ONE, ZERO, plus, times
 from everychange.tables import stage_order
 
 
@@ -145,13 +145,6 @@ def _still_series(start, power):
     return tuple([(x,) + (ZERO,) * power for x in start])
 
 
-def _integral(poly):
-    """The POWERSUM that is 0 at 0 and has poly as its derivative."""
-    if not poly:
-        return ()
-    return (ZERO,) + tuple([over(x, whole(at + 1)) for at, x in enumerate(poly)])
-
-
 def _led(polys, series, x):
     """The SERIES of where POLYS, one for each cell, lead the SERIES in x times the step.
 
@@ -161,7 +154,8 @@ def _led(polys, series, x):
     states = [[cell[0] for cell in series]]
     for done in range(1, len(series[0])):
         rates = growing.rates()
-        row = [poly_plus(_constant(cell[done]), poly_scaled(_integral(rate), x)) for cell, rate in zip(series, rates)]
+        row = [poly_plus(_constant(cell[done]), poly_scaled(poly_integral(rate), x))
+               for cell, rate in zip(series, rates)]
         growing.further(row)
         states.append([poly_value(poly, ONE) for poly in row])
     return tuple(list(zip(*states)))

@@ -24,7 +24,7 @@ def hanging(sheet):
     return tuple([stage for stage, is_in in enumerate(_reach(hung_on(sheet[0]), told_by)) if is_in])
 
 
-def _kept(sheet, stages):
+def kept_stages(sheet, stages):
     """The SHEET with these stages alone."""
     matrices = [tuple([tuple([matrix[i][k] for k in stages]) for i in stages]) for matrix in sheet[0]]
     tells = [tuple([tuple([row[k] for k in stages]) for row in tell]) for tell in sheet[1]]
@@ -34,7 +34,7 @@ def _kept(sheet, stages):
 def least_sheet(sheet):
     """The least SHEET of a SHEET."""
     of_lots = lot_sheet(sheet, lots(sheet))
-    return _kept(of_lots, hanging(of_lots))
+    return kept_stages(of_lots, hanging(of_lots))
 
 
 def least_table(table):

@@ -1,7 +1,7 @@
 """The least power of the step at which TABLES part, and short CHANGES that show it, point [14]."""
 
 from everychange.alike import both_lots, space_over_stages
-from everychange.changes import is_change, is_ladder, tree_change
+from everychange.changes import has_low_powers, is_change, is_ladder, tree_change
 from everychange.engine import run_of
 from everychange.lots import laid_out, lot_sheet, lots
 from everychange.ratios import ONE, ZERO, applied, space_of, times, whole, whole_row
@@ -9,8 +9,6 @@ from everychange.spans import Span, dot_of
 from everychange.tables import sheet_of
 from everychange.treerows import TreeRows, first_trees, how_many_hang
 from everychange.trees import places_of_tree
-
-MOST_POWER = 24
 
 
 def place_space(sheet, many):
@@ -95,9 +93,7 @@ def parting_ladder(table, other):
 
 def is_parting_ladder(table, other, thing):
     """Whether thing is a ladder with no power above 24 by which both tell unlike so."""
-    if not is_change(thing) or len(thing) != len(table[0]) or not is_ladder(thing):
-        return False
-    if any([max(powers) > MOST_POWER for part in thing for poly in part for powers, x in poly]):
+    if not is_change(thing) or len(thing) != len(table[0]) or not is_ladder(thing) or not has_low_powers(thing):
         return False
     start = (ZERO,) * len(thing[0])
     return run_of(sheet_of(table), thing, start, ONE) != run_of(sheet_of(other), thing, start, ONE)

@@ -97,9 +97,16 @@ class Round:
         return start
 
 
-def _check_way(way, known):
-    if not all([choice is True or choice is False for choice in way]) or way not in known:
-        raise Unfit()
+def _check_ways(plan, ways):
+    known = unsorted_ways(plan)
+    for way in ways:
+        if not all([choice is True or choice is False for choice in way]) or way not in known:
+            raise Unfit()
+
+
+def check_way(plan, way):
+    """Raises Unfit if this is no WAY of the PLAN."""
+    _check_ways(plan, frozen((way,)))
 
 
 def _laid_out(asks, part, many):
@@ -110,9 +117,7 @@ def _laid_out(asks, part, many):
 def plan_sheet(plan, ways):
     """The SHEET of the stages and tells of rounds on these WAYS, one behind another."""
     parts, routines = frozen(plan)
-    known = unsorted_ways(plan)
-    for way in frozen(ways):
-        _check_way(way, known)
+    _check_ways(plan, frozen(ways))
     rounds, tells = Round(routines), []
     for way in frozen(ways):
         rounds.choices = list(way)
@@ -128,17 +133,19 @@ def plan_table(plan, way):
     return (matrices, tells[-1])
 
 
-def _point_name(stage):
+def point_name(stage):
+    """The name of the point of a stage."""
     return "g" + str(stage)
 
 
-def _rise_name(part, stage):
+def rise_name(part, stage):
+    """The name of the rise of a part at a stage."""
     return "k" + str(stage) + "x" + str(part)
 
 
-def _terms(rows):
+def terms_of(rows):
     """The terms of y and of what rows, one for each part, have at the rises."""
-    rises = [(x, _rise_name(part, stage)) for part, row in enumerate(rows) for stage, x in enumerate(row) if x[0]]
+    rises = [(x, rise_name(part, stage)) for part, row in enumerate(rows) for stage, x in enumerate(row) if x[0]]
     return tuple([(ONE, "y")] + rises)
 
 
@@ -146,7 +153,7 @@ def _asks_at(matrices, tells, stage):
     """An ask for each part for which a stage or a tell hangs on this stage, of part 0 if there is none."""
     parts = [part for part, matrix in enumerate(matrices)
              if any([row[stage][0] for row in list(matrix) + [tell[part] for tell in tells]])]
-    return [("ask", _rise_name(part, stage), part, _point_name(stage)) for part in parts or [0]]
+    return [("ask", rise_name(part, stage), part, point_name(stage)) for part in parts or [0]]
 
 
 def plan_of(sheet):
@@ -155,7 +162,7 @@ def plan_of(sheet):
     if not tells:
         raise CanNot()
     stages = range(len(matrices[0]))
-    points = [("mix", _point_name(stage), _terms([matrix[stage] for matrix in matrices])) for stage in stages]
+    points = [("mix", point_name(stage), terms_of([matrix[stage] for matrix in matrices])) for stage in stages]
     asks = [_asks_at(matrices, tells, stage) for stage in stages]
     steps = [step for stage in stages for step in [points[stage]] + asks[stage]]
     if any([other >= stage for stage, others in enumerate(hung_on(matrices)) for other in others]):
@@ -163,5 +170,5 @@ def plan_of(sheet):
         steps = [("solve", tuple([step for own in asks for step in own] + points))]
     for number, tell in enumerate(tells):
         name = "t" + str(number)
-        steps.extend([("mix", name, _terms(tell)), ("tell", name)])
+        steps.extend([("mix", name, terms_of(tell)), ("tell", name)])
     return (len(matrices), (("all", tuple(steps)),))

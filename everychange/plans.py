@@ -34,7 +34,7 @@ def _holds(kinds, name, kind):
     return isinstance(name, str) and kinds.get(name) == kind
 
 
-def _mix_kind(terms, kinds):
+def mix_kind(terms, kinds):
     """The kind of what these terms come to; None if they are none or come to nothing that is let."""
     if not isinstance(terms, tuple):
         return None
@@ -47,6 +47,11 @@ def _mix_kind(terms, kinds):
     if total == ONE:
         return POINT
     return RISE if total == ZERO else None
+
+
+def common_kinds(kinds, others):
+    """The names that both sides of an either leave as the same kind."""
+    return {name: kinds[name] for name in kinds if others.get(name) == kinds[name]}
 
 
 class Routine:
@@ -84,7 +89,7 @@ class Routine:
         if word == "ask" and many == 4 and self.is_part(step[2]) and _holds(kinds, step[3], POINT):
             return self.with_name(kinds, step[1], RISE)
         if word == "mix" and many == 3:
-            return self.with_name(kinds, step[1], _mix_kind(step[2], kinds))
+            return self.with_name(kinds, step[1], mix_kind(step[2], kinds))
         if word == "solve" and many == 2 and _is_filled(step[1]):
             return self.behind_solve(step[1], kinds)
         if word == "call" and many == 6 and is_number(step[4]) and step[4] >= 1:
@@ -111,7 +116,7 @@ class Routine:
         second_kinds = self.behind(second, kinds)
         if first_kinds is None or second_kinds is None:
             return None
-        return {name: first_kinds[name] for name in first_kinds if second_kinds.get(name) == first_kinds[name]}
+        return common_kinds(first_kinds, second_kinds)
 
     def behind_solve(self, steps, kinds):
         """Behind a solve: its asks hold in all its mixes, and are at points as these are at its end."""

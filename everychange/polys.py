@@ -75,6 +75,13 @@ def poly_rate(poly):
     return tuple([times(whole(at), poly[at]) for at in range(1, len(poly))])
 
 
+def poly_integral(poly):
+    """The POWERSUM that is 0 at 0 and has poly as its derivative."""
+    if not poly:
+        return ()
+    return (ZERO,) + tuple([over(x, whole(at + 1)) for at, x in enumerate(poly)])
+
+
 def divided(poly, other):
     """How often other is in poly, and the rest."""
     if not other:

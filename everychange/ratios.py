@@ -107,7 +107,7 @@ def ratio_by(text):
     top, slash, bottom = unsigned.partition("/")
     if not slash:
         bottom = "1"
-    if not _is_figures(top) or not _is_figures(bottom):
+    if not is_figures(top) or not is_figures(bottom):
         raise BadLine(1)
     below = _number_by(bottom)
     if below == 0:
@@ -118,7 +118,8 @@ def ratio_by(text):
     return x
 
 
-def _is_figures(text):
+def is_figures(text):
+    """Whether the text is digits alone, one or more."""
     return text.isascii() and text.isdigit()
 
 

@@ -37,14 +37,18 @@ def first_common(numbers, others):
     return numbers
 
 
-def sign_chain(numbers):
-    """Sturm's chain of a polynomial whose roots are single ones."""
-    chain = [numbers]
-    other = less_common([at * number for at, number in enumerate(numbers)][1:])
+def chain_from(numbers, others):
+    """The two polynomials, and each time the rest of the two before it, with the other sign."""
+    chain, other = [numbers], less_common(others)
     while other:
         chain.append(other)
         other = [-number for number in whole_rest(chain[-2], other)]
     return chain
+
+
+def sign_chain(numbers):
+    """Sturm's chain of a polynomial whose roots are single ones."""
+    return chain_from(numbers, [at * number for at, number in enumerate(numbers)][1:])
 
 
 def sign_at(numbers, x):

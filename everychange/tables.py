@@ -5,7 +5,8 @@ from everychange.plain import check_place, frozen, is_number, is_tuple
 from everychange.ratios import ONE, ZERO, dot, is_row, minus, times
 
 
-def _is_weights(thing, many, stages):
+def is_rows_of_parts(thing, many, stages):
+    """Whether thing is a tuple with a row over the stages for each of many parts."""
     return is_tuple(thing, many) and all([is_row(row, stages) for row in thing])
 
 
@@ -27,7 +28,7 @@ def is_table(thing, many):
     if not is_tuple(thing, 2):
         return False
     stages = _stages_if_matrices(thing[0], many)
-    return stages is not None and _is_weights(thing[1], many, stages)
+    return stages is not None and is_rows_of_parts(thing[1], many, stages)
 
 
 def is_sheet(thing, many):
@@ -35,7 +36,7 @@ def is_sheet(thing, many):
     if not is_tuple(thing, 2) or not isinstance(thing[1], tuple):
         return False
     stages = _stages_if_matrices(thing[0], many)
-    return stages is not None and all([_is_weights(tell, many, stages) for tell in thing[1]])
+    return stages is not None and all([is_rows_of_parts(tell, many, stages) for tell in thing[1]])
 
 
 def _has_tells(sheet):

@@ -31,6 +31,15 @@ def places_of_tree(tree):
     return len(trees_within(tree))
 
 
+def unlike_trees(trees):
+    """The unlike ones among these TREES, their branches and so on, fewest places first, then by comparison."""
+    found = []
+    for _, own in sorted([(places_of_tree(own), own) for tree in trees for own in trees_within(tree)]):
+        if own not in found:
+            found.append(own)
+    return found
+
+
 def number_of(tree):
     """How many places tree has, times the numbers of its branches."""
     number = 1

@@ -69,7 +69,7 @@ def _weigh(pairs, trees):
     return True
 
 
-def _cut_places(trees):
+def cut_places(trees):
     """For each TREE the list of its cuts, as places among the trees, less the one that cuts nothing off."""
     found = []
     for tree in trees:
@@ -78,7 +78,7 @@ def _cut_places(trees):
     return found
 
 
-def _over_cuts(ways, firsts, seconds):
+def over_cuts(ways, firsts, seconds):
     """The sum over the cuts of the second one for the rooted part times the first ones for what is cut off."""
     total = ZERO
     for lot, rest in ways:
@@ -89,44 +89,45 @@ def _over_cuts(ways, firsts, seconds):
     return total
 
 
-def _trees_and_worths(weights):
+def trees_and_worths(weights):
+    """The TREES of WEIGHTS, and their FRACTIONS."""
     weights = frozen(weights)
     return [tree for tree, x in weights], [x for tree, x in weights]
 
 
 def behind_weights(weights, others):
     """The WEIGHTS of what tells others, begun with what tells weights."""
-    trees, firsts = _trees_and_worths(weights)
-    same, seconds = _trees_and_worths(others)
+    trees, firsts = trees_and_worths(weights)
+    same, seconds = trees_and_worths(others)
     if trees != same:
         raise Unfit()
     found = []
-    for at, ways in enumerate(_cut_places(trees)):
-        worth = plus(plus(firsts[at], seconds[at]), _over_cuts(ways, firsts, seconds))
+    for at, ways in enumerate(cut_places(trees)):
+        worth = plus(plus(firsts[at], seconds[at]), over_cuts(ways, firsts, seconds))
         found.append((trees[at], worth))
     return tuple(found)
 
 
 def back_weights(weights):
     """The WEIGHTS that behind these come to 0 for each TREE."""
-    trees, firsts = _trees_and_worths(weights)
+    trees, firsts = trees_and_worths(weights)
     found = []
-    for at, ways in enumerate(_cut_places(trees)):
+    for at, ways in enumerate(cut_places(trees)):
         # A rooted part has fewer places than its TREE: it is found already.
-        found.append(minus(minus(ZERO, firsts[at]), _over_cuts(ways, firsts, found)))
+        found.append(minus(minus(ZERO, firsts[at]), over_cuts(ways, firsts, found)))
     return tuple(list(zip(trees, found)))
 
 
 def scaled_weights(weights, x):
     """The WEIGHTS of the step times x."""
-    trees, worths = _trees_and_worths(weights)
+    trees, worths = trees_and_worths(weights)
     return tuple([(tree, times(power_of(x, places_of_tree(tree)), worth)) for tree, worth in zip(trees, worths)])
 
 
 def root_weights(weights, n):
     """The only WEIGHTS that, n times behind one another, come to these."""
-    trees, worths = _trees_and_worths(weights)
-    ways = _cut_places(trees)
+    trees, worths = trees_and_worths(weights)
+    ways = cut_places(trees)
     # To begin with weights is to add something of fewer places, D, again and again:
     # done n times it is (1 + D) to the power n, and the root is this series for 1 / n.
     added, share, roots = list(worths), over(ONE, whole(n)), [ZERO] * len(trees)
@@ -135,7 +136,7 @@ def root_weights(weights, n):
         roots = [plus(root, times(share, x)) for root, x in zip(roots, added)]
         done += 1
         share = times(share, over(fraction(1 - done * n, n), whole(done + 1)))
-        added = [_over_cuts(own, worths, added) for own in ways]
+        added = [over_cuts(own, worths, added) for own in ways]
     return tuple(list(zip(trees, roots)))
 
 

@@ -10,10 +10,11 @@ PACKAGE = pathlib.Path(__file__).resolve().parent.parent / "everychange"
 FILES = sorted(PACKAGE.glob("*.py"))
 METHODS = set("""append clear copy count endswith extend find get index insert isalnum isalpha isdigit islower isspace
     isupper items join keys ljust lower lstrip partition pop remove replace reverse rfind rjust rpartition rsplit rstrip
-    setdefault split splitlines startswith strip update upper values zfill bit_length isascii sort""".split())
+    setdefault split splitlines startswith strip update upper values zfill bit_length isascii sort add""".split())
 BUILTINS = set("""len range enumerate zip min max sum abs sorted reversed int str bool list tuple dict set isinstance
     ord repr any all divmod next ValueError LookupError IndexError KeyError""".split())
-LIBRARY = {"math": {"gcd", "lcm", "isqrt", "comb", "perm", "factorial"}}
+LIBRARY = {"math": {"gcd", "lcm", "isqrt", "comb", "perm", "factorial"},
+           "heapq": {"heappush", "heappop", "heapify", "heapreplace", "heappushpop"}}
 BARRED = re.compile(r"\b(type|typing|enum|Enum|Generic|Protocol|ABC|namedtuple|open|input|law|elements|register)\b")
 
 
