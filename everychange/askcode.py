@@ -142,8 +142,8 @@ class Unseen:
         first = [asked.lot_form(lot) + none for lot in lots_there]
         second = [asked.lot_form(lot) + _at_places(asked.lot_form(lot), changed) for lot in self.moved]
         told = [_at_places(asked.form(tell), changed) for tell in asked.small[1]]
-        parted = next((none + form for form in told if any([x[0] for x in form])), None)
-        numbers = never_zero(forms_apart(first + second) + [parted], 2 * len(none))
+        parted = [none + form for form in told if any([x[0] for x in form])]
+        numbers = never_zero(forms_apart(first + second) + parted[:1], 2 * len(none))
         self.rates, self.more = numbers[:len(none)], numbers[len(none):]
         self.points = [dot(form, numbers) for form in first]
         self.moved_points = [dot(form, numbers) for form in second]

@@ -32,7 +32,8 @@ def linear_word(table, other):
         raise Unfit()
     matrices, (own, others) = beside(sheet_of(table), sheet_of(other))
     # A row is what is weighed ahead of further parts; the second TABLE is weighed less than nothing.
-    columns = [list(zip(*whole_matrix(matrix))) for matrix in matrices]
+    wholes = [whole_matrix(matrix) for matrix in matrices]
+    columns = [list(zip(*numbers)) for numbers in wholes]
     rows = [whole_row([minus(x, y) for x, y in zip(row, line)]) for row, line in zip(own, others)]
     span, words = Span(), [((part,), row) for part, row in enumerate(rows)]
     while words:
@@ -75,7 +76,8 @@ def _check_one_part(table):
 def solve_poly(table):
     """det(1 - z matrix) as a POWERSUM in z."""
     _check_one_part(table)
-    matrix, places = table[0][0], range(len(table[0][0]))
+    matrix = table[0][0]
+    places = range(len(matrix))
     found, powers = [ONE], [[whole(int(i == k)) for k in places] for i in places]
     for done in range(1, len(matrix) + 1):
         led = product(matrix, powers)

@@ -35,7 +35,8 @@ class Left:
 
     def next_pivot(self):
         """The least place that has not been a pivot and has a FRACTION above 0 on the diagonal, None without."""
-        return next((at for at, row in enumerate(self.rows) if at not in self.pivots and sign_of(row[at]) > 0), None)
+        free = [at for at in range(len(self.rows)) if at not in self.pivots]
+        return next((at for at in free if sign_of(self.rows[at][at]) > 0), None)
 
     def takes(self, at):
         """Takes the square away that leaves 0 in the row and the column of this place."""
@@ -114,7 +115,8 @@ def is_below(array, thing):
 
 def square_of(table):
     """The square of the TABLE itself."""
-    parts, stages = range(len(table[0])), range(len(table[0][0]))
+    parts = range(len(table[0]))
+    stages = range(len(table[0][0]))
     arrays = [[array_of(table, w, v) for v in parts] for w in parts]
     return tuple([tuple([arrays[w][v][j][i] for v in parts for i in stages]) for w in parts for j in stages])
 
@@ -209,7 +211,8 @@ def _drive_matrix(word, worth):
 
 def _points_on(matrices, word, worths):
     """The last cells of the points if the POLYS have these values at the stages; None if no solution is found."""
-    stages, cells = range(len(matrices[0])), range(1 if word == DAMP else 2)
+    stages = range(len(matrices[0]))
+    cells = range(1 if word == DAMP else 2)
     led = [[_drive_matrix(word, worth) for worth in row] for row in worths]
     columns = []
     for k in stages:

@@ -49,7 +49,8 @@ def array_of(table, part, other):
     """The array of these parts."""
     check_place(part, len(table[0]))
     check_place(other, len(table[0]))
-    (matrices, weights), stages = table, range(len(table[0][0]))
+    matrices, weights = table
+    stages = range(len(matrices[0]))
     return tuple([tuple([_array_place(matrices, weights, (part, i), (other, j)) for j in stages]) for i in stages])
 
 
@@ -86,14 +87,14 @@ def is_degree_kept(table, degree, way):
 
 def has_kept_weights(table, degree, way):
     """Whether the weights and arrays of this TABLE itself show that it keeps the degree by this way."""
-    weights, parts = table[1], range(len(table[0]))
+    weights, many = table[1], len(table[0])
     if way != EACH and any([row != weights[0] for row in weights]):
         return False
     if degree == 1:
         return True
     if degree == 3:
         return not any([x[0] for row in weights for x in row])
-    pairs = [(0, 1)] if way == CROSSWISE else [(part, other) for part in parts for other in parts[part:]]
+    pairs = [(0, 1)] if way == CROSSWISE else [(part, other) for other in range(many) for part in range(other + 1)]
     return not any([x[0] for part, other in pairs for row in array_of(table, part, other) for x in row])
 
 
@@ -129,10 +130,10 @@ class Loss:
 
     def lots_of(self, degree, way):
         """(power, some of grown) for each two or three TREES to look at, fewest places first."""
-        every = range(len(self.grown))
-        lots = [(i, j) for i in every for j in every[i:]]
+        many = len(self.grown)
+        lots = [(i, j) for i in range(many) for j in range(i, many)]
         if degree == 3:
-            lots.extend([(i, j, k) for i, j in lots for k in every[j:]])
+            lots = lots + [(i, j, k) for i, j in lots for k in range(j, many)]
         found = [(sum([self.grown[at][0] for at in lot]), lot) for lot in lots]
         grown = [(power, [self.grown[at] for at in lot]) for power, lot in sorted(found)]
         if way == CROSSWISE:

@@ -104,7 +104,8 @@ def alike_on(kind, table, other):
 
 def _ladder_of(kind, found, many):
     """(change, sorts): the ladder of many parts with a cell for the last TREE found and for each one it is made of."""
-    needed, cells = set([len(found) - 1]), []
+    needed = set([len(found) - 1])
+    cells = []
     for node in range(len(found) - 1, -1, -1):
         if node in needed:
             cells.append(node)

@@ -1,6 +1,7 @@
 """The texts of PLANS, point [5]."""
 
 from everychange.errors import BadLine
+from everychange.plain import frozen
 from everychange.planblocks import RoutineBlocks
 from everychange.plans import is_name
 from everychange.plansums import FreshNames, Line
@@ -60,7 +61,7 @@ def _lines_of(steps, blanks):
 
 def plan_text(plan):
     """The text of the PLAN."""
-    parts, routines = plan
+    parts, routines = frozen(plan)
     lines = ["parts " + str(parts)]
     for title, steps in routines:
         lines.extend([title + ":"] + _lines_of(steps, "  "))

@@ -62,7 +62,8 @@ class Seen:
         unknown = self.places_with(size)
         if size == 1:
             # One of them is free: the third may be the one itself, done some times, and then another third.
-            unknown.remove(next((at for at in unknown if self.one[at][0]), None))
+            free = [at for at in unknown if self.one[at][0]]
+            unknown.remove(free[0])
         longer = self.places_with(size + 1)
         missing = [minus(plus(self.other[at], over_cuts(self.ways[at], self.third, self.other)),
                          plus(self.one[at], over_cuts(self.ways[at], self.one, self.third))) for at in longer]
