@@ -81,10 +81,11 @@ def _products(rows, degree, size):
     return found
 
 
-def _degree_cells(matrices, degree):
+def _degree_cells(matrices, degree, weighed):
     """(cells, rows, products): pairs (part, places) of cells whose rows make the degree space, and these _products.
 
     The cell is moved by this part at the rate of the product of the cells at these places, all of them earlier ones.
+    As soon as one of the products is weighed, by a row for each part, it is all that is asked for.
     """
     size = len(matrices[0])
     cells, rows, span = [], [], Span()
@@ -92,6 +93,8 @@ def _degree_cells(matrices, degree):
     whole_matrices = [whole_matrix(matrix) for matrix in matrices]
     while True:
         products = _products(rows, degree, size)
+        if _asks_weighed(products, weighed):
+            return cells, rows, products
         before = len(cells)
         for part, matrix in enumerate(whole_matrices):
             for places, numbers in products:
@@ -101,6 +104,12 @@ def _degree_cells(matrices, degree):
                     rows.append(row)
         if len(cells) == before:
             return cells, rows, products
+
+
+def _asks_weighed(products, weighed):
+    """The pairs (part, places) of products whose weight for the part is not 0."""
+    return [(part, places) for places, numbers in products
+            for part, row in enumerate(weighed) if dot_of(row, numbers) != 0]
 
 
 def space_over_stages(parting, rows):
@@ -113,7 +122,7 @@ def degree_space(sheet, degree):
     """The degree space of the SHEET."""
     parting = lots(sheet)
     matrices, _ = lot_sheet(sheet, parting)
-    _, rows, _ = _degree_cells(matrices, degree)
+    _, rows, _ = _degree_cells(matrices, degree, ())
     return space_over_stages(parting, [[1] * len(parting)] + rows)
 
 
@@ -121,17 +130,16 @@ def told_space(sheet, degree):
     """The told space of the SHEET."""
     parting = lots(sheet)
     matrices, _ = lot_sheet(sheet, parting)
-    _, _, products = _degree_cells(matrices, degree)
+    _, _, products = _degree_cells(matrices, degree, ())
     return space_over_stages(parting, [numbers for places, numbers in products])
 
 
 def _told_unlike(table, other, degree):
-    """(cells, asks): the _degree_cells of both, and the pairs (part, places) that both weigh unlike."""
+    """(cells, asks): the _degree_cells of both, and pairs (part, places) that both weigh unlike."""
     _, matrices, apart = both_lots(table, other)
     weighed = [whole_row(row) for row in apart]
-    cells, _, products = _degree_cells(matrices, degree)
-    return cells, [(part, places) for places, numbers in products
-                   for part, row in enumerate(weighed) if dot_of(row, numbers) != 0]
+    cells, _, products = _degree_cells(matrices, degree, weighed)
+    return cells, _asks_weighed(products, weighed)
 
 
 def alike_to(table, other, degree):

@@ -64,7 +64,7 @@ class Left:
 
 def _all_taken(array):
     """What is left of the ARRAY when all squares are taken away that can be."""
-    left = Left(array)
+    left = Left(frozen(array))
     at = left.next_pivot()
     while at is not None:
         left.takes(at)

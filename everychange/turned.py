@@ -117,4 +117,9 @@ def is_third(one, other, thing):
 
 def seen_order(table, most):
     """The greatest number of places, up to most, to which the TABLE is seen through some WEIGHTS as the flow."""
-    return seen_to(weights_of(table, most), flow_weights(len(table[0]), most))
+    # Few places show first where it ends: with many the numbers are long.
+    for places in range(2, most + 1):
+        reach = seen_to(weights_of(table, places), flow_weights(len(table[0]), places))
+        if reach < places:
+            return reach
+    return most

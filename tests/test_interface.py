@@ -64,7 +64,34 @@ INTERFACE = {
     "flowloops": """seen_through(row, other), is_seen_through(row, other, thing), row_rounds(row, n), is_product(thing),
         product_at(product, n), first_apart(product, other), is_form_row(thing), same_at(row, other)""",
     "plans": """is_plan(thing), ways(plan)""",
-    "planruns": """plan_sheet(plan, ways), plan_table(plan, way), plan_of(sheet)"""}
+    "planruns": """plan_sheet(plan, ways), plan_table(plan, way), plan_of(sheet)""",
+    "planlines": """plan_text(plan), plan_by(text)""",
+    "asks": """needed_asks(sheet, tells), further_asks(sheet, tells, known), free_tells(sheet, known), path_asks(sheet,
+        path), round_asks(table, n), ask_order(sheet, tells), ask_turns(sheet, tells)""",
+    "askcode": """ask_plan(sheet, tells), asks_made(plan, way), ways_sheet(plan), ask_log(sheet, tells, change, start, h),
+        unseen_pair(sheet, tells, ask), is_unseen_pair(sheet, tells, ask, thing)""",
+    "kinds": """is_kind(thing), fits(kind, change, sorts), kind_rows(kind, sheet), alike_on(kind, table, other),
+        parting_on(kind, table, other), is_parting_on(kind, table, other, thing), power_on(kind, table, other, most),
+        order_on(kind, table, most), kind_trees(kind, sort, places), all_kind(parts), degree_kind(parts, degree),
+        time_kind(), driven_kind(), turning_kind(), second_kind(), one_cell_order(table, most)""",
+    "kept": """kept_so(change, poly, way), array_of(table, part, other), defect(table, trees), keeps(table, degree, way),
+        losing_power(table, degree, way), grafted_change(trees, many), losing_change(table, degree, way),
+        is_losing(table, degree, way, thing)""",
+    "driven": """is_array(thing), squares(array), is_squares(array, thing), below(array), is_below(array, thing),
+        square_of(table), is_drive(thing, many), drive_change(drive), told_size(table, drive, start, points),
+        never_grows_driven(table), growth(table), is_growth(table, thing)""",
+    "damped": """word_weight(table, word), linear_word(table, other), is_alike_linear(table, other), word_change(word, many),
+        spin_change(p, q), solve_poly(table), solves_damped(table), quotient(table), ray_poly(table, p, q),
+        never_grows(table), growing_paper(table), is_growing_paper(table, thing)""",
+    "turned": """turned_table(table), is_symmetric(table), made_symmetric(table), seen_to(one, other), third_of(one, other),
+        is_third(one, other, thing), seen_order(table, most)""",
+    "papers": """is_statement(thing), stands(statement), paper(statement), is_paper_for(statement, thing),
+        is_paper_against(statement, thing), verdicts(statements, things), comes_of(statement, statements)""",
+    "desk": """desk(text), is_request(thing), row_text(row), row_by(text)"""}
+
+BOARD = """sheet(), tickets(), table(ticket), given(ticket), add_stage(rows), hang(part, stage, other, x), drop_stage(stage),
+    add_tell(weights), weigh(ticket, part, stage, x), drop_tell(ticket), go_behind(table), scale(x), make(word), undo(), stays(ticket),
+    parted(ticket), alike(ticket, other), order(ticket, most), keeps(ticket, degree, way), asks(), grows(ticket)"""
 
 ERRORS = {"NoPlace": ["place"], "NothingDone": [], "BadLine": ["line"], "CanNot": [], "TooMuch": [], "Unfit": []}
 
@@ -90,6 +117,18 @@ class Interface(unittest.TestCase):
                     self.assertEqual(parameter.kind, parameter.POSITIONAL_OR_KEYWORD)
                     self.assertIs(parameter.default, parameter.empty)
 
+    def test_board(self):
+        from everychange.board import Board
+        self.assertEqual((Board.__module__, Board.__bases__), ("everychange.board", (object,)))
+        self.assertEqual(list(inspect.signature(Board).parameters), ["many"])
+        for name, parameters in listed(BOARD):
+            self.assertEqual(list(inspect.signature(vars(Board)[name]).parameters), ["self"] + parameters, name)
+
+    def test_all_headings_are_there(self):
+        files = {path.stem for path in (ROOT / "everychange").glob("*.py")}
+        self.assertLessEqual(set(INTERFACE) | {"errors", "board"}, files)
+        self.assertEqual(len(INTERFACE), 30)
+
     def test_errors(self):
         module = importlib.import_module("everychange.errors")
         for name, parameters in ERRORS.items():
@@ -104,16 +143,21 @@ class Interface(unittest.TestCase):
 
     def test_what_readme_shows_is_so(self):
         text = (ROOT / "README.md").read_text()
-        code = text.split("```python\n")[1].split("```")[0]
         names, seen = {}, 0
-        for line in code.splitlines():
-            call, _, told = line.partition("#")
-            if line.startswith(("run_of", "weight", "lots")):
-                self.assertEqual(eval(call, names), eval(told), line)
-                seen += 1
-            else:
-                exec(call, names)
-        self.assertEqual(seen, 3)
+        for block in text.split("```python\n")[1:]:
+            for line in block.split("```")[0].splitlines():
+                call, _, told = line.partition("#")
+                if line.startswith(("run_of", "weight", "lots", "desk")):
+                    self.assertEqual(eval(call, names), eval(told), line)
+                    seen += 1
+                else:
+                    exec(call, names)
+        self.assertEqual(seen, 4)
+
+    def test_readme_names_each_file(self):
+        text = (ROOT / "README.md").read_text()
+        for path in (ROOT / "everychange").glob("*.py"):
+            self.assertIn(f"`{path.name}`" if path.stem != "__init__" else "everychange", text)
 
 
 if __name__ == "__main__":

@@ -331,7 +331,7 @@ class BadLines(Case):
                     self.assertEqual(e.line, at + 1, text)
         source = random.Random(1)
         vocabulary = ["a = y", "y = a", "y = 0", "a = 0", "tell y", "tell a", "either", "else", "solve", "k = f0(g)", "g = y + k"]
-        for _ in range(3000):
+        for _ in range(1200):
             lines, blanks = ["parts 1", "m:"], 2
             for _ in range(source.randint(1, 7)):
                 word = source.choice(vocabulary)
