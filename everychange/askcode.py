@@ -144,14 +144,14 @@ class Unseen:
         told = [_at_places(asked.form(tell), changed) for tell in asked.small[1]]
         parted = [none + form for form in told if any([x[0] for x in form])]
         numbers = never_zero(forms_apart(first + second) + parted[:1], 2 * len(none))
-        self.rates, self.more = numbers[:len(none)], numbers[len(none):]
+        self.paces, self.more = numbers[:len(none)], numbers[len(none):]
         self.points = [dot(form, numbers) for form in first]
         self.moved_points = [dot(form, numbers) for form in second]
 
-    def polys(self, part):
+    def part_polys(self, part):
         """The POLYS of this part in the first CHANGE and in the second one."""
         asks = [(lot, at) for at, (lot, own) in enumerate(self.inner.pairs) if own == part]
-        first = poly_through([self.points[lot] for lot, at in asks], [self.rates[at] for lot, at in asks])
+        first = poly_through([self.points[lot] for lot, at in asks], [self.paces[at] for lot, at in asks])
         places, worths = list(self.points), [ZERO] * len(self.points)
         for lot, at in asks:
             if at == self.own:
@@ -159,7 +159,7 @@ class Unseen:
             if lot in self.moved:
                 place = self.moved_points[self.moved.index(lot)]
                 places.append(place)
-                worths.append(minus(plus(self.rates[at], self.more[at]), poly_value(first, place)))
+                worths.append(minus(plus(self.paces[at], self.more[at]), poly_value(first, place)))
         poly = one_cell_poly(first)
         return poly, plus_polys(poly, one_cell_poly(poly_through(places, worths)))
 
@@ -168,7 +168,7 @@ def unseen_pair(sheet, tells, ask):
     """A pair of CHANGES of one cell that some of tells part, alike at what is asked of the first one but for ask."""
     asked = Asked(sheet, tells)
     unseen = Unseen(asked, asked.place_of(frozen(ask)))
-    pairs = [unseen.polys(part) for part in range(len(sheet[0]))]
+    pairs = [unseen.part_polys(part) for part in range(len(sheet[0]))]
     return (tuple([(first,) for first, second in pairs]), tuple([(second,) for first, second in pairs]))
 
 

@@ -113,7 +113,7 @@ def _ladder_of(kind, found, many):
                 needed.add(branch)
     cells.reverse()
     sorts = tuple([found[node][0] for node in cells])
-    polys = [product_poly([cells.index(branch) for branch in found[node][3]], len(cells)) for node in cells]
+    polys = [product_poly([cells.index(own) for own in found[node][3]], len(cells)) for node in cells]
     change = [tuple([poly if kind[sort][0] == part else () for poly, sort in zip(polys, sorts)])
               for part in range(many)]
     return tuple(change), sorts
@@ -178,7 +178,7 @@ def _sorts_of(kind, tree):
                 further[counts[:sort] + (counts[sort] + 1,) + counts[sort + 1:]] = True
         ways_to_count = further
     return [sort for sort, (part, ways) in enumerate(kind)
-            if part == tree[0] and any([_fit_way(counts, way) for counts in ways_to_count for way in ways])]
+            if part == tree[0] and any([_fit_way(own, way) for own in ways_to_count for way in ways])]
 
 
 def _with_parts(tree, parts):

@@ -10,11 +10,11 @@ from everychange.tables import hung_on
 class Held:
     """What a name was given at one time: what it adds up, and which stage it is, None till it is asked.
 
-    The asks are a dict from pairs (part, stage) to FRACTIONS; a point is this from where its run started.
+    What it adds up are asks, a dict from pairs (part, stage) to FRACTIONS; a point is this from where its run started.
     """
 
     def __init__(self, asks):
-        self.asks = asks
+        self.sums = asks
         self.stage = None
 
 
@@ -50,7 +50,7 @@ class Round:
             elif word == "either":
                 self.follow(step[1] if self.choices.pop(0) else step[2], x, names, tells)
             elif word == "tell":
-                tells.append(names[step[1]].asks)
+                tells.append(names[step[1]].sums)
             else:
                 names[step[1]] = Held(self.worth_of(step, x, names))
 
@@ -60,13 +60,13 @@ class Round:
         if word == "ask":
             return {(step[2], self.stage_of(names[step[3]])): x}
         if word == "mix":
-            return _summed([share for share, name in step[2]], [names[name].asks for share, name in step[2]])
+            return _summed([share for share, name in step[2]], [names[name].sums for share, name in step[2]])
         if word == "call":
-            asks = names[step[5]].asks
+            asks = names[step[5]].sums
             for _ in range(step[4]):
                 asks = self.run(step[2], times(x, step[3]), asks)[-1]
             return asks
-        return self.led_back(step[2], times(x, step[3]), names[step[4]].asks)
+        return self.led_back(step[2], times(x, step[3]), names[step[4]].sums)
 
     def stage_of(self, held):
         """Which stage this point is."""
@@ -84,7 +84,7 @@ class Round:
             names[step[1]] = Held(self.worth_of(step, x, names))
         for step in mixes:
             held = names[step[1]]
-            held.asks = self.worth_of(step, x, names)
+            held.sums = self.worth_of(step, x, names)
 
     def led_back(self, title, x, point):
         """The asks of the point from which a run leads to point."""
@@ -93,7 +93,7 @@ class Round:
         start = _summed((ONE, minus(ZERO, ONE)), (point, led))
         # The points of this run were told from where it started: now it is known from where that is.
         for held in self.stages[before:]:
-            held.asks = _summed((ONE, ONE), (start, held.asks))
+            held.sums = _summed((ONE, ONE), (start, held.sums))
         return start
 
 
@@ -123,7 +123,7 @@ def plan_sheet(plan, ways):
         rounds.choices = list(way)
         tells.extend(rounds.run(routines[-1][0], ONE, tells[-1] if tells else {}))
     many = len(rounds.stages)
-    matrices = [tuple([_laid_out(held.asks, part, many) for held in rounds.stages]) for part in range(parts)]
+    matrices = [tuple([_laid_out(held.sums, part, many) for held in rounds.stages]) for part in range(parts)]
     return (tuple(matrices), tuple([tuple([_laid_out(asks, part, many) for part in range(parts)]) for asks in tells]))
 
 

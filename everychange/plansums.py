@@ -2,7 +2,7 @@
 
 from everychange.errors import BadLine
 from everychange.plans import FIGURES, LETTERS, is_name
-from everychange.ratios import ONE, fraction, over, times, whole
+from everychange.ratios import ONE, fraction, is_figures, over, times, whole
 
 DEEPEST = 20
 LONGEST_DIGITS = 40
@@ -14,7 +14,7 @@ ASK = "ask"
 def _part_by(word):
     """The part that is asked if this word stands ahead of a bracket, None if there is none."""
     figures = word[1:]
-    if not word.startswith("f") or not figures or not all([sign in FIGURES for sign in figures]):
+    if not word.startswith("f") or not is_figures(figures) or len(figures) > LONGEST_DIGITS:
         return None
     return int(figures) if figures == "0" or figures[0] != "0" else None
 
@@ -223,10 +223,10 @@ def steps_of_line(line, fresh):
         line.needs(" = ")
         start = line.at
         if line.skips("back "):
-            _lay_back(line, laid, name)
+            _back_of_line(line, laid, name)
         elif is_name(line.word()) and line.has("("):
             line.at = start
-            _lay_call(line, laid, name)
+            _call_of_line(line, laid, name)
         else:
             line.at = start
             laid.sets_sum(name, line.terms())
@@ -234,13 +234,13 @@ def steps_of_line(line, fresh):
     return laid.steps
 
 
-def _lay_back(line, laid, name):
+def _back_of_line(line, laid, name):
     title = line.name()
     point = laid.name_of(line.in_brackets())
     laid.steps.append(("back", name, title, line.pace(), point))
 
 
-def _lay_call(line, laid, name):
+def _call_of_line(line, laid, name):
     title = line.name()
     point = laid.name_of(line.in_brackets())
     x = line.pace()

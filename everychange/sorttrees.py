@@ -19,7 +19,7 @@ class WayRows:
     def __init__(self, number, sort, way):
         most, caps = way
         self.number = number
-        self.sort = sort
+        self.own_sort = sort
         self.turns = [(other, cap) for other, cap in enumerate(caps) if cap != 0]
         known = [cap for _, cap in self.turns if cap is not None]
         if most is not None and len(known) == len(self.turns) and sum(known) <= most:
@@ -90,7 +90,7 @@ class SortTrees:
         while way.takes(place, row):
             turn, _, every = place
             if turn == len(way.turns):
-                return self.is_new_tree(way.sort, places + 1, row, branches)
+                return self.is_new_tree(way.own_sort, places + 1, row, branches)
             way.rows[turn].append((places, place, row, branches))
             for node, other in self.branches[way.turns[turn][0]]:
                 self.lays_together(way, way.rows[turn][-1], node, other)

@@ -67,7 +67,7 @@ class Seen:
         longer = self.places_with(size + 1)
         missing = [minus(plus(self.other[at], over_cuts(self.ways[at], self.third, self.other)),
                          plus(self.one[at], over_cuts(self.ways[at], self.one, self.third))) for at in longer]
-        columns = [[self.share(self.ways[at], own) for at in longer] for own in unknown]
+        columns = [[self.share(self.ways[tree], own) for tree in longer] for own in unknown]
         try:
             found = combination(columns, missing)
         except CanNot:

@@ -16,6 +16,8 @@ BUILTINS = set("""len range enumerate zip min max sum abs sorted reversed int st
 LIBRARY = {"math": {"gcd", "lcm", "isqrt", "comb", "perm", "factorial"},
            "heapq": {"heappush", "heappop", "heapify", "heapreplace", "heappushpop"}}
 BARRED = re.compile(r"\b(type|typing|enum|Enum|Generic|Protocol|ABC|namedtuple|open|input|law|elements|register)\b")
+BARRED_NAMES = re.compile(r"_wall|_pe_|_dcw_|_enum_|_cm_|_twin_re_|_lay_|_law_|_stub_|_sre|_WallAttr"
+                          r"|(_cold|_tuplegetter|_outside|_record|_written_out|_member_names)[0-9_]*$")
 
 
 def names_bound(tree):
@@ -136,6 +138,7 @@ class Language(unittest.TestCase):
                 self.assertNotIn(word, imported, where)
                 self.assertTrue(word not in classes or isinstance(node, ast.ClassDef), where)
                 self.assertTrue(re.fullmatch(r"_|_?[A-Za-z][A-Za-z0-9_]*|__init__", word), where)
+                self.assertIsNone(BARRED_NAMES.match(word), where)
             for node in ast.walk(tree):
                 if isinstance(node, ast.Name) and isinstance(node.ctx, ast.Load):
                     self.assertNotEqual(node.id, "_", f"{name}:{node.lineno}")
@@ -162,6 +165,35 @@ class Language(unittest.TestCase):
                 if isinstance(node, ast.Call) and isinstance(node.func, ast.Attribute):
                     where = f"{name}:{node.lineno}: {node.func.attr}"
                     self.assertIn(node.func.attr, METHODS | own, where)
+
+    def test_attributes(self):
+        methods, attributes = set(), set()
+        for name, tree in self.trees():
+            for node in ast.walk(tree):
+                if isinstance(node, ast.ClassDef):
+                    methods.update(inner.name for inner in node.body if isinstance(inner, ast.FunctionDef))
+                if isinstance(node, ast.Attribute) and isinstance(node.ctx, ast.Store):
+                    attributes.add(node.attr)
+        self.assertEqual(methods & attributes, set())
+        builtin = {word for own in (str, int, list, dict, set, bytes) for word in dir(own)}
+        self.assertEqual((methods | attributes) & builtin, {"__init__"})
+
+    def test_what_stands_behind_a_star(self):
+        for name, tree in self.trees():
+            for node in ast.walk(tree):
+                if isinstance(node, ast.Call):
+                    for argument in node.args:
+                        if isinstance(argument, ast.Starred):
+                            self.assertIsInstance(argument.value, (ast.Name, ast.Attribute), f"{name}:{node.lineno}")
+
+    def test_what_is_kept_is_assigned_alone(self):
+        once = ("set", "range", "zip", "enumerate", "reversed")
+        for name, tree in self.trees():
+            for node in ast.walk(tree):
+                if isinstance(node, ast.Assign) and isinstance(node.value, ast.Tuple):
+                    for value in node.value.elts:
+                        if isinstance(value, ast.Call) and isinstance(value.func, ast.Name):
+                            self.assertNotIn(value.func.id, once, f"{name}:{node.lineno}")
 
     def test_words(self):
         for name, tree in self.trees():

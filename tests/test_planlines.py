@@ -196,7 +196,7 @@ class BadLines(Case):
                      "k", "k =", "k = ", "k=y", "k = y y", "k  = y", " = y", "k = = y", "= y", "k + y", "2 = y", "K = y", "f0 = y", "one = y",
                      "main = y", "solve = y", "tell = y", "over = y", "parts = y", "back = y", "times = y", "either = y", "else = y",
                      "abcdefghijklm = y", "k = 2*y", "k = y + y", "k = 1/2*y", "k = q", "k = 2*k", "k = f0(k)", "k = f0(0)", "k = f0(y - y)",
-                     "k = f0(2*y)", "k = f2(y)", "k = f9(y)", "k = tell y", "k = solve", "k = y over 2", "k = f0(y) over 2",
+                     "k = f0(2*y)", "k = f2(y)", "k = f9(y)", "k = f" + "9" * 41 + "(y)", "k = f" + "1" * 5000 + "(y)", "k = f" + "1" * 5000, "k = tell y", "k = solve", "k = y over 2", "k = f0(y) over 2",
                      "k = one", "k = one()", "k = one(0)", "k = one(y", "k = one(y))", "k = one(q)", "k = main(y)", "k = none(y)", "k = y(y)",
                      "k = one(y) over", "k = one(y) over ", "k = one(y) over 0", "k = one(y) over - 1", "k = one(y) over --1", "k = one(y) over 1/0",
                      "k = one(y) over y", "k = one(y) times", "k = one(y) times 0", "k = one(y) times -1", "k = one(y) times 1/2",
