@@ -338,6 +338,16 @@ class Damped(Case):
                 self.looks_right(table, found)
                 self.is_one(is_growing_paper, [found], table=table)
 
+    def test_a_root_to_the_left_that_is_nearly_taken_away(self):
+        for k in (3, 9, 20):
+            little = Fraction(1, 10 ** k)
+            factors = ((1, Fraction(3, 7), Fraction(5, 11)), (1, Fraction(-1, 3)), (1, Fraction(-1, 2), Fraction(1, 20)))
+            table = with_bottom(factors, [Fraction(1), Fraction(3, 7) - little, Fraction(5, 11) - 2 * little])
+            self.gives(False, never_grows, table=table)
+            found = growing_paper(table)
+            self.assertNotEqual(found[0], zero)
+            self.looks_right(table, found)
+
     def test_what_is_none(self):
         self.only_unbent(is_growing_paper, (less, zero), table=undone(implicit))
         self.is_one(is_growing_paper, [(less, zero), ((-1, 3), (1, 7))], table=undone(implicit))
