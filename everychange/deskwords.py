@@ -8,7 +8,8 @@ LONGEST_DIGITS = 40
 MADE = ("least", "lots", "order")
 WAYS = ("each", "whole", "crosswise")
 BEHIND_SLASH = " / "
-# What stands behind the first word of a request: a number, a fraction X, LISTS or FLOWS to the end, FLOWS to a slash.
+# What stands behind the first word of a request: N a number, X a fraction, M a word of make, W a way, S all to a slash,
+# L all to the end of the line.
 FORMS = {"parts": "N", "stage": "L", "hang": "NNNX", "drop": "N", "tell": "L", "weigh": "NNNX", "leave": "N",
          "scale": "X", "make": "M", "undo": "", "behind": "", "sheet": "", "tickets": "", "order": "NN", "keeps": "NNW",
          "asks": "", "grows": "N", "stays": "N", "parted": "N", "alike": "NN", "like": "N", "run": "XL", "normal": "L",

@@ -48,7 +48,7 @@ class RoutineBlocks:
             can = self.closes_to(level) and self.takes_step(text, number, fresh)
         return can and self.stack[-1].can_go_on()
 
-    def is_whole(self):
+    def closes_all(self):
         """Closes all blocks; whether the routine can end here."""
         return self.closes_to(0) and self.stack[0].has_told
 
@@ -98,7 +98,8 @@ class RoutineBlocks:
             self.stack.append(Block(kind, block.kinds, block.has_told, block.waits))
             return block.kind != SOLVE
         for step in steps_of_line(Line(text, number), fresh):
-            if not self.takes_in_solve(block, step) if block.kind == SOLVE else not self.takes_plain(block, step):
+            taken = self.takes_in_solve(block, step) if block.kind == SOLVE else self.takes_plain(block, step)
+            if not taken:
                 return False
             block.steps.append(step)
         return True

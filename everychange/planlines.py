@@ -86,7 +86,9 @@ class PlanReader:
             line.needs("parts ")
             self.parts = line.digits()
             line.ends()
-        elif not (self.takes_inner(text, number) if text.startswith(" ") else self.takes_title(text)):
+            return
+        taken = self.takes_inner(text, number) if text.startswith(" ") else self.takes_title(text)
+        if not taken:
             raise BadLine(number)
 
     def takes_inner(self, text, number):
@@ -98,7 +100,7 @@ class PlanReader:
     def takes_title(self, text):
         """Takes in a line that begins a routine; whether some text goes on so."""
         title = text[:-1]
-        if not text.endswith(":") or not is_name(title) or title == "y" or not self.is_whole():
+        if not text.endswith(":") or not is_name(title) or title == "y" or not self.ends_routine():
             return False
         if title in self.titles or title in self.names:
             return False
@@ -106,11 +108,11 @@ class PlanReader:
         self.blocks = RoutineBlocks(self.parts, list(self.titles))
         return True
 
-    def is_whole(self):
+    def ends_routine(self):
         """Ends the routine that is read; whether none is, or it can end."""
         if self.blocks is None:
             return self.parts is not None
-        if not self.blocks.is_whole():
+        if not self.blocks.closes_all():
             return False
         self.routines.append((self.titles[-1], self.blocks.all_steps()))
         for name in self.blocks.routine.ahead:
@@ -125,6 +127,6 @@ def plan_by(text):
     reader = PlanReader(text)
     for number, line in enumerate(lines, start=1):
         reader.takes(line, number)
-    if not reader.is_whole() or not reader.routines:
+    if not reader.ends_routine() or not reader.routines:
         raise BadLine(len(lines) + 1)
     return (reader.parts, tuple(reader.routines))
