@@ -122,8 +122,8 @@ class PlanReader:
 
 def plan_by(text):
     """The PLAN with this text."""
-    # An empty line is none: it does not count.
-    lines = [line for line in text.split("\n") if line]
+    # No text has an empty line, so the one behind a line feed at the end is taken in, too.
+    lines = text.split("\n")
     reader = PlanReader(text)
     for number, line in enumerate(lines, start=1):
         reader.takes(line, number)

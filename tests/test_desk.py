@@ -285,10 +285,11 @@ class Requests(Case):
                    text="stage -\nparts 2\nsheet\nundo\nstage - | -\nparts 7\nsheet")
 
     def test_texts(self):
-        # Empty lines in a text, the empty text, a line of blanks.
-        text = "\n ".join(HEUN.split("\n ")).replace("\n", "\n \n")
-        self.gives(["0", "done", "refused BadLine", "refused BadLine", "0 0\n1 0\ntell 1/2 1/2"], desk,
-                   text="tell -\nbehind\n" + text + "\n \nbehind\n \nbehind\n  \nsheet")
+        # The empty text, a line of blanks; an empty line ahead, behind, or between.
+        self.gives(["0", "refused BadLine", "refused BadLine", "tell -"], desk, text="tell -\nbehind\n \nbehind\n  \nsheet")
+        for text in (" \n" + HEUN, HEUN + "\n ", HEUN.replace("\n heun", "\n \n heun"), HEUN.replace("\n   tell", "\n \n   tell")):
+            self.gives(["0", "refused BadLine", "refused BadLine", "done", "0 0\n1 0\ntell 1/2 1/2", "yes"], desk,
+                       text="tell -\nbehind\n" + text + "\nlike 7\n" + text + "\nbehind\n" + HEUN + "\nsheet\nlike 0\n" + HEUN)
         # Blanks belong to the text but for one.
         self.gives(["refused BadLine"], desk, text="behind\n" + HEUN.replace("\n ", "\n  "))
         self.gives(["done"], desk, text="behind\n" + HEUN)

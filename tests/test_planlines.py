@@ -1,4 +1,3 @@
-import random
 import unittest
 
 from everychange.errors import BadLine
@@ -132,14 +131,6 @@ class Steps(Case):
                   ("solve", (("mix", "t0", ((i, "y"), (half, "k"), (i, "l"))), ("ask", "k", 0, "t0"),
                              ("mix", "t1", ((i, "y"), (i, "k"))), ("ask", "l", 1, "t1"))))
 
-    def test_empty_lines_are_none(self):
-        self.gives(heun, plan_by, text="\n\n" + HEUN.replace("\n", "\n\n\n") + "\n")
-        self.gives(heun, plan_by, text=HEUN + "\n\n")
-        # They do not count.
-        for line, text in ((1, "\n\nm:"), (3, "parts 1\n\nm:\n\n  tell z\n"), (4, ONE_TELL + "\n\n x"), (3, "\nparts 1\nm:\n\n"),
-                           (2, "parts 1\n \nm:\n  tell y")):
-            self.same(self.raises(BadLine, plan_by, text=text).line, line, text)
-
     def test_needless_zeros(self):
         self.same(plan_by("parts 007\nm:\n  tell y")[0], 7)
         self.same(steps_of("a = one(y) over 02/004 times 03", "tell a")[0], ("call", "a", "one", half, 3, "y"))
@@ -168,6 +159,18 @@ class BadLines(Case):
     def test_no_text_at_all(self):
         self.bad(1, "")
         self.bad(1, "\n\n")
+
+    def test_empty_lines(self):
+        # Wherever it stands, an empty line is counted as the line that it is, and no text has one.
+        lines = HEUN.split("\n")
+        for at in range(len(lines) + 1):
+            for more in (1, 2):
+                self.bad(at + 1, "\n".join(lines[:at] + [""] * more + lines[at:]))
+        for line, text in ((2, "parts 1\n\nm:\n\n  tell z\n"), (4, ONE_TELL + "\n"), (4, ONE_TELL + "\n\n"), (4, ONE_TELL + "\n\n x"),
+                           (4, ONE_TELL + "\n\nn:\n  tell y"), (5, "parts 1\nm:\n  either\n    tell y\n\n  else\n    tell y"),
+                           (4, "parts 1\nm:\n  solve\n\n    g = y\n  tell y"), (2, "parts 1\n \nm:\n  tell y"),
+                           (3, "parts 1\nm:\n  tell z\n"), (4, ONE_TELL + "\n  ")):
+            self.bad(line, text)
 
     def test_first_line(self):
         for line in ("m:", "parts", "parts ", "parts 0", "parts 00", "parts -1", "parts 1 ", " parts 1", "parts  1", "Parts 1", "parts 1:",
@@ -317,35 +320,14 @@ class BadLines(Case):
         self.bad(5, HEUN + "\n?")
         self.bad(5, HEUN + "\n  tell k")
 
-    def test_each_line_of_a_text_can_be_gone_on_from(self):
-        # The first lines of a text are never bad, and lines that are not bad can be gone on from.
-        ends = ["\n  tell y", "\n    tell y", "\n      tell y", "\n  else\n    tell y", "\n    else\n      tell y\n  else\n    tell y",
-                "\n    else\n      tell y", "\n    else\n      a = y\n  else\n    tell y", "\n    g = y", "\n      g = y", ""]
+    def test_the_first_lines_of_a_text(self):
         for seed in range(40):
             lines = plan_text(SomePlan(seed, 2, True).plan).split("\n")
-            for at in range(len(lines) + 1):
-                text = "\n".join(lines[:at])
+            for at in range(len(lines)):
                 try:
-                    plan_by(text)
+                    plan_by("\n".join(lines[:at]))
                 except BadLine as e:
-                    self.assertEqual(e.line, at + 1, text)
-        source = random.Random(1)
-        vocabulary = ["a = y", "y = a", "y = 0", "a = 0", "tell y", "tell a", "either", "else", "solve", "k = f0(g)", "g = y + k"]
-        for _ in range(1200):
-            lines, blanks = ["parts 1", "m:"], 2
-            for _ in range(source.randint(1, 7)):
-                word = source.choice(vocabulary)
-                lines.append(" " * blanks + word)
-                blanks += 2 * (word in ("either", "else", "solve")) - 2 * source.randint(0, 1)
-                blanks = max(2, blanks)
-            try:
-                self.assertTrue(is_plan(plan_by("\n".join(lines))))
-            except BadLine as e:
-                if e.line > len(lines):
-                    continue
-                for end in ends:
-                    text = "\n".join(lines[:e.line]) + end
-                    self.same(self.raises(BadLine, lambda text: plan_by(text), text=text).line, e.line, text)
+                    self.assertEqual(e.line, at + 1, lines[:at])
 
 
 if __name__ == "__main__":
