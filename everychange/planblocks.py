@@ -25,7 +25,7 @@ class Block:
         self.rises = {}
 
     def has_point(self):
-        """Whether some name holds a point; without one none can be made any more."""
+        """Whether some name that a line can use holds a point; without one none can be made any more."""
         return any([kind == POINT for kind in self.kinds.values()])
 
     def can_go_on(self):
@@ -82,6 +82,9 @@ class RoutineBlocks:
         """Goes on with the second side of an either."""
         if not self.closes_to(level + 1) or self.stack[-1].kind != FIRST or not self.stack[-1].steps:
             return False
+        # An either that ends the first side may have left it without a point.
+        if not self.stack[-1].can_go_on():
+            return False
         first = self.stack.pop()
         around = self.stack[-1]
         # If a WAY has not told on the first side, it must do so behind the either, at a point that both sides leave.
@@ -102,6 +105,8 @@ class RoutineBlocks:
             if not taken:
                 return False
             block.steps.append(step)
+        # What was set ahead was for this line alone: no later line can name it.
+        block.kinds = {name: block.kinds[name] for name in block.kinds if not fresh.is_made(name)}
         return True
 
     def takes_plain(self, block, step):

@@ -154,7 +154,8 @@ class FreshNames:
 
     def __init__(self, text):
         self.words = {}
-        self.made = 0
+        self.made = {}
+        self.following = 0
         line = Line(text, 1)
         while line.at < len(text):
             self.words[line.word()] = True
@@ -162,10 +163,16 @@ class FreshNames:
 
     def further(self):
         """The next one."""
-        while "t" + str(self.made) in self.words:
-            self.made += 1
-        self.made += 1
-        return "t" + str(self.made - 1)
+        while "t" + str(self.following) in self.words:
+            self.following += 1
+        name = "t" + str(self.following)
+        self.following += 1
+        self.made[name] = True
+        return name
+
+    def is_made(self, name):
+        """Whether the name was set ahead; then no line of the text can use it."""
+        return name in self.made
 
 
 class LineSteps:
